@@ -114,6 +114,8 @@ func TestRight(t *testing.T) {
 		"rule without codes":        func(m *api.Table) { m.Cells[2].Rules[1].Right = nil },
 		"field that is none":        func(m *api.Table) { m.Cells[2].Rules[1].Left[0].Field = 99 },
 		"less than that may be":     func(m *api.Table) { m.Cells[2].Rules[0].Left[0].At = 0 },
+		"op 6":                      func(m *api.Table) { m.Cells[2].Rules[0].Op = 6 },
+		"op 1 of a guard":           func(m *api.Table) { m.Cells[0].Nots[0].Rules[0].Op = 1 },
 		"window 1":                  func(m *api.Table) { m.Window = 1 },
 		"window 8":                  func(m *api.Table) { m.Window = 8 },
 		"guard between other cells": func(m *api.Table) { m.Cells[1].Nots = []api.Guard{{Type: 7}} },
@@ -126,7 +128,9 @@ func TestRight(t *testing.T) {
 
 // P7.2
 func TestNotRight(t *testing.T) {
-	is(t, "no cells", table.Right(api.Table{Window: 3}), false)
+	for n, want := range []bool{false, true, true, true, true, true, true, false, false} {
+		is(t, fmt.Sprint("cells: ", n), table.Right(api.Table{Cells: make([]api.Cell, n), Window: 3}), want)
+	}
 	for what, spoil := range map[string]func(m *api.Table){
 		"window 0":            func(m *api.Table) { m.Window = 0 },
 		"window 9":            func(m *api.Table) { m.Window = 9 },
