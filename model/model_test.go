@@ -330,6 +330,8 @@ func TestClosedOrOver(t *testing.T) {
 	l := with(end(0), 0, 9, close0)
 	l[1].Answer.N = 1
 	linear(t, "closed, and an N", false, c, l...)
+	linear(t, "closed, of what is refused unseen", false, c, with(api.Call{Kind: 9}, 0, 9, close0)...)
+	linear(t, "closed, of a text that is none", false, c, with(register("seq"), 0, 9, close0)...)
 
 	c.Stamps = 2
 	over := []api.Done{done(0, 9, 0, publish(0, 0), ok(0)), done(4, -1, 1, publish(0, 0), ok(1)), done(1, 9, -1, poll(0, 1), fails(api.ErrOver))}
@@ -365,6 +367,7 @@ func TestFull(t *testing.T) {
 	linear(t, "no slots, of two, and itself", false, c, full(done(0, 9, -1, publish(0, 0), fails(api.ErrFull)), 2, publish(0, 0))...)
 	linear(t, "no slots, ahead of the last one's beginning", false, c, full(done(0, 2, -1, publish(0, 0), fails(api.ErrFull)), 3, publish(0, 0))...)
 	linear(t, "no slots, of polls", false, c, full(done(0, 9, -1, publish(0, 0), fails(api.ErrFull)), 3, poll(0, 1))...)
+	linear(t, "no slots, begun behind all others", true, c, full(done(9, 9, -1, publish(0, 0), fails(api.ErrFull)), 3, publish(0, 0))...)
 	linear(t, "no slots, for an end", false, c, full(done(0, 9, -1, end(0), fails(api.ErrFull)), 3, publish(0, 0))...)
 	l := full(done(0, 9, -1, publish(0, 0), fails(api.ErrFull)), 2, publish(0, 0))
 	linear(t, "no slots, by one without a stamp", true, c, append(l, done(8, -1, -1, publish(0, 0), api.Answer{}))...)

@@ -184,6 +184,11 @@ func TestTooManyByKey(t *testing.T) {
 	is(t, "too many of one", []any{fed.Lost, len(fed.Found), len(fed.Ups), sorted(fed.Downs)}, []any{true, 0, 0, refs(0, 1, 1, 2, 3, 3, 4, 5, 5, 6, 7, 7, 8, 9, 9)})
 	is(t, "then", []any{f.x.Count(), f.x.Lost()}, []any{0, true})
 
+	// what does not go on is none of them
+	f = newFeeder(made(t, "seq A a, B b within 8"), 1)
+	l := f.all("ABB")
+	is(t, "as many as may be, and a match", []any{len(l[1].Found), len(l[2].Found), f.x.Lost()}, []any{1, 1, false})
+
 	// a match in the event with which there are too many is not found
 	f = newFeeder(made(t, "seq A+ a within 8"), 2)
 	is(t, "one", len(f.all("A")[0].Found), 1)
