@@ -55,9 +55,6 @@ func Out(o api.Out) api.Out {
 	return o
 }
 
-// Outs are copies of what shards told.
-func Outs(l []api.Out) []api.Out { return each(l, Out) }
-
 // Command is a copy of a command.
 func Command(c api.Command) api.Command {
 	c.Table = Table(c.Table)

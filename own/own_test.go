@@ -44,7 +44,6 @@ func TestCopies(t *testing.T) {
 		o.Hits[0].Found.Sets[0][1], o.Hits[0].Found.Refs[1].Gen, o.Hits[0].ID = 77, 77, 77
 	}
 	anew(t, out, own.Out, ruin)
-	anew(t, []api.Out{out, out}, own.Outs, func(l []api.Out) { ruin(l[1]) })
 	anew(t, found, own.Found, func(f api.Found) { f.Sets[1] = nil })
 	anew(t, api.Answer{Err: 1, N: 2, Matches: [][][]int{{{1}, {2, 3}}}}, own.Answer, func(a api.Answer) { a.Matches[0][1][1] = 77 })
 	anew(t, [][][]int{{{1}}, nil}, own.Matches, func(l [][][]int) { l[0][0] = nil })
